@@ -14,7 +14,7 @@ func (c call) decide(d api.Value, decisive bool) (api.Value, api.Errno) {
 		if e != api.OK {
 			return api.Value{}, e
 		}
-		if isTrue(v) == decisive {
+		if True(v) == decisive {
 			return boolean(decisive), api.OK
 		}
 	}
@@ -26,7 +26,7 @@ func (c call) not(d api.Value) (api.Value, api.Errno) {
 	if e != api.OK {
 		return api.Value{}, e
 	}
-	return boolean(!isTrue(v)), api.OK
+	return boolean(!True(v)), api.OK
 }
 
 func (c call) cond(d api.Value) (api.Value, api.Errno) {
@@ -34,7 +34,7 @@ func (c call) cond(d api.Value) (api.Value, api.Errno) {
 	if e != api.OK {
 		return api.Value{}, e
 	}
-	if isTrue(v) {
+	if True(v) {
 		return c.terms[1].eval(d)
 	}
 	return c.terms[2].eval(d)
@@ -51,7 +51,8 @@ func (c call) ifNull(d api.Value) (api.Value, api.Errno) {
 	return v, api.OK
 }
 
-func isTrue(v api.Value) bool {
+// True tells what is true: all but Missing, Null, nought and false.
+func True(v api.Value) bool {
 	switch v.Kind {
 	case api.Missing, api.Null:
 		return false

@@ -8,8 +8,8 @@ type meter struct {
 	deep  bool // a Doc or a List lies too deep
 }
 
-// measure answers how many values v has. Too many are told ahead of one that lies too deep, wherever that is.
-func measure(v api.Value) (int, api.Errno) {
+// Measure answers how many values v has, for what else has the limits of an expression, too. Too many are told ahead of one that lies too deep, wherever that is.
+func Measure(v api.Value) (int, api.Errno) {
 	var m meter
 	if !m.count(v, 1) {
 		return 0, api.ErrLong

@@ -80,11 +80,11 @@ func (c call) kind(d api.Value) (api.Value, api.Errno) {
 	if e != api.OK {
 		return api.Value{}, e
 	}
-	return api.Value{Kind: api.Text, S: nameOf(v.Kind)}, api.OK
+	return api.Value{Kind: api.Text, S: NameOf(v.Kind)}, api.OK
 }
 
-// nameOf answers what a kind is called, nothing of what is no kind.
-func nameOf(kind int) string {
+// NameOf answers what a kind is called, nothing of what is no kind.
+func NameOf(kind int) string {
 	switch kind {
 	case api.Missing:
 		return "missing"
