@@ -30,6 +30,15 @@ func (c chance) value(depth int) api.Value {
 	return c.pick(row(least, null, no, yes, boolean(3), date(0), date(7), raw(""), raw("\x00a"), id("abcdefghijkl"), greatest, missing, none(13), none(-1)))
 }
 
+// operand is one that may be compared with; what is within may be no value.
+func (c chance) operand(depth int) api.Value {
+	v := c.value(depth)
+	for !takes("$eq", v) {
+		v = c.value(depth)
+	}
+	return v
+}
+
 func (c chance) values(depth int) []api.Value {
 	var l []api.Value
 	for range c.Intn(4) {
@@ -75,7 +84,7 @@ func (c chance) field(depth int) api.Field {
 	case n == 3:
 		return api.Field{Name: "$expr", V: c.expression()}
 	case n == 4:
-		return api.Field{Name: c.path(), V: c.value(2)}
+		return api.Field{Name: c.path(), V: c.operand(2)}
 	}
 	return api.Field{Name: c.path(), V: c.conditions(2)}
 }
@@ -107,5 +116,5 @@ func (c chance) condition(depth int) api.Value {
 	case n < 7 && depth > 0:
 		return is("$not", c.conditions(depth-1))
 	}
-	return is(c.word(comparing()...), c.value(2))
+	return is(c.word(comparing()...), c.operand(2))
 }

@@ -105,21 +105,26 @@ func TestNull(t *testing.T) {
 	want(t, is("a", list(null)), is("a", list()), false)
 }
 
-// TestWhatIsNoValue has Missing and kinds that are none be asked for: as Compare and Class have them.
-func TestWhatIsNoValue(t *testing.T) {
-	for _, name := range []string{"$eq", "$gte", "$lte"} {
-		want(t, is("a", is(name, missing)), doc(), true)
-		want(t, is("a", is(name, missing)), is("a", null), false)
-		want(t, is("a", is(name, none(13))), is("a", none(-1)), true)
-		want(t, is("a", is(name, none(13))), doc(), false)
-	}
-	for _, name := range []string{"$ne", "$gt", "$lt"} {
-		want(t, is("a", is(name, missing)), doc(), false)
-		want(t, is("a", is(name, none(13))), is("a", none(-1)), false)
-	}
-	want(t, is("a", missing), doc(), true)
+// TestNothingWithin has what is no value stand within one that is compared with, and within the document: it is as Compare has it.
+func TestNothingWithin(t *testing.T) {
 	want(t, is("a", op("$in", missing)), doc(), true)
 	want(t, is("a", op("$in", missing)), is("a", null), false)
+	want(t, is("a", op("$nin", missing)), doc(), false)
+	want(t, is("a", op("$in", none(13))), is("a", none(-1)), true)
+	want(t, is("a", op("$in", none(13))), doc(), false)
+	for _, v := range nothing() {
+		wantAt(t, is("$eq", list(v)), list(v), true)
+		wantAt(t, is("$eq", is("b", v)), is("b", v), true)
+		wantAt(t, is("$gt", list(v)), list(null), true)
+		if v.Kind == api.Missing {
+			continue
+		}
+		for _, name := range comparing() {
+			want(t, is("a", is(name, null)), is("a", v), name == "$ne")
+		}
+		want(t, is("a", op("$in", null)), is("a", v), false)
+		want(t, is("a", op("$nin", null)), is("a", v), true)
+	}
 }
 
 // TestListsOfItems has a field that is a List: an item may match, or the whole.
@@ -139,7 +144,7 @@ func TestListsOfItems(t *testing.T) {
 	} {
 		wantAt(t, x.condition, l, x.matches)
 	}
-	for _, v := range append(plain(), is("a", i32(1)), missing) {
+	for _, v := range append(plain(), is("a", i32(1))) {
 		wantAt(t, is("$eq", v), list(), false)
 		wantAt(t, is("$ne", v), list(), true)
 		wantAt(t, is("$gte", v), list(), false)
@@ -147,6 +152,8 @@ func TestListsOfItems(t *testing.T) {
 		wantAt(t, op("$in", v), list(), false)
 		wantAt(t, op("$nin", v), list(), true)
 	}
+	wantAt(t, op("$in", nothing()...), list(), false)
+	wantAt(t, op("$nin", nothing()...), list(), true)
 }
 
 // TestListsAgainstLists has Lists that are compared whole: their items are no Lists.

@@ -89,14 +89,20 @@ func kinds() []int {
 	return []int{-1, 13, 14, 256, math.MinInt, math.MaxInt, 1 << 32, 1<<32 + api.Int32, -api.Text}
 }
 
-// every is a value of each kind, those that are none too, with some that nest.
-func every() []api.Value {
-	l := slices.Concat(plain(), nested(), row(missing))
+// nothing is what is no value: Missing, and kinds that are none.
+func nothing() []api.Value {
+	l := row(missing)
 	for _, kind := range kinds() {
 		l = append(l, none(kind))
 	}
 	return l
 }
+
+// some is a value of each kind, with some that nest.
+func some() []api.Value { return slices.Concat(plain(), nested()) }
+
+// every is some, and what is no value.
+func every() []api.Value { return slices.Concat(some(), nothing()) }
 
 // beside gives v all that its kind does not have.
 func beside(v api.Value) api.Value {

@@ -61,11 +61,19 @@ func TestMostNodes(t *testing.T) {
 	}
 }
 
-// TestMostNodesOfWhateverKind counts what lies in fields and items where the kind has none.
+// TestMostNodesOfWhateverKind counts what lies in fields and items where the kind has none. What is no value is told so within the limits alone, and may stand within a List.
 func TestMostNodesOfWhateverKind(t *testing.T) {
 	for kind := api.Missing - 1; kind <= api.Greatest+1; kind++ {
-		v := api.Value{Kind: kind, L: repeat(none(13), 200), F: fields(missing, 198).F}
-		wantNodes(t, is("a", v), api.MaxNodes)
+		v := api.Value{Kind: kind, L: repeat(none(13), 200), F: fields(missing, 197).F}
+		wantNodes(t, is("a", list(v)), api.MaxNodes)
+		wantNoQuery(t, is("a", list(v, null)), api.ErrLong)
+		wantNoQuery(t, is("a", list(list(v))), api.ErrLong)
+		v.F = fields(missing, 198).F
+		if takes("$eq", v) {
+			wantNodes(t, is("a", v), api.MaxNodes)
+		} else {
+			wantNoQuery(t, is("a", v), api.ErrQuery)
+		}
 		wantNoQuery(t, docs(is("a", v), is("b", null)), api.ErrLong)
 		wantNoQuery(t, is("a", is("$eq", v)), api.ErrLong)
 		more := v
@@ -109,7 +117,7 @@ func TestMostItems(t *testing.T) {
 		wantNoQuery(t, api.Value{Kind: kind, L: more}, api.ErrLong)
 		wantNoQuery(t, api.Value{Kind: kind, F: fields(null, api.MaxItems+1).F}, api.ErrLong)
 		wantNoQuery(t, is("a", api.Value{Kind: kind, L: more}), api.ErrLong)
-		wantNodes(t, is("a", api.Value{Kind: kind, L: most, F: fields(null, 100).F}), api.MaxItems+102)
+		wantNodes(t, is("a", list(api.Value{Kind: kind, L: most, F: fields(null, 100).F})), api.MaxItems+103)
 	}
 }
 
@@ -140,17 +148,19 @@ func TestMostDepth(t *testing.T) {
 	wantNoQuery(t, is("a", deep(is("$eq", i32(1)), api.MaxDepth-1, not)), api.ErrDeep)
 }
 
-// TestMostDepthOfWhateverKind has what is within a value be one deeper, also where its kind has nothing within.
+// TestMostDepthOfWhateverKind has what is within a value be one deeper, also where its kind has nothing within, or is none and within a List.
 func TestMostDepthOfWhateverKind(t *testing.T) {
 	for _, kind := range []int{api.Missing, api.Null, api.Int32, api.Text, api.Greatest, 13} {
 		byItems := func(v api.Value) api.Value { return api.Value{Kind: kind, L: row(v)} }
 		byFields := func(v api.Value) api.Value { return api.Value{Kind: kind, F: is("a", v).F} }
 		for _, wrap := range []func(api.Value) api.Value{byItems, byFields} {
 			for _, v := range row(list(), doc()) {
-				parsed(t, is("b", deep(v, api.MaxDepth-2, wrap)))
+				parsed(t, is("b", list(deep(v, api.MaxDepth-3, wrap))))
+				wantNoQuery(t, is("b", list(deep(v, api.MaxDepth-2, wrap))), api.ErrDeep)
 				wantNoQuery(t, is("b", deep(v, api.MaxDepth-1, wrap)), api.ErrDeep)
 			}
-			wantNodes(t, is("b", deep(i32(1), api.MaxNodes-2, wrap)), api.MaxNodes)
+			wantNodes(t, is("b", list(deep(i32(1), api.MaxNodes-3, wrap))), api.MaxNodes)
+			wantNoQuery(t, is("b", list(deep(i32(1), api.MaxNodes-2, wrap))), api.ErrLong)
 			wantNoQuery(t, is("b", deep(i32(1), api.MaxNodes-1, wrap)), api.ErrLong)
 		}
 	}

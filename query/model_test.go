@@ -325,7 +325,11 @@ func rewordedCondition(path, name string, v api.Value) api.Value {
 	case "$in", "$nin":
 		some := row(fails())
 		for _, x := range v.L {
-			some = append(some, ask("$eq", x))
+			if takes("$eq", x) {
+				some = append(some, ask("$eq", x))
+			} else {
+				some = append(some, ask("$in", list(x)))
+			}
 		}
 		if name == "$in" {
 			return op("$or", some...)
@@ -396,7 +400,10 @@ func fieldError(name string, v api.Value) api.Errno {
 			return api.ErrName
 		}
 	}
-	return map[bool]api.Errno{true: api.ErrQuery}[isConditions(v) && !areConditions(v)]
+	if !isConditions(v) {
+		v = is("$eq", v)
+	}
+	return map[bool]api.Errno{true: api.ErrQuery}[!areConditions(v)]
 }
 
 func areConditions(v api.Value) bool {

@@ -5,8 +5,11 @@ import (
 	"aqueduct/expr"
 )
 
-// conditionOf answers an operator's condition with v; nil, where the name is none or does not take v.
+// conditionOf answers an operator's condition with v; nil, where the name is none or does not take v. No operator takes what is no value.
 func conditionOf(name string, v api.Value) condition {
+	if !isValue(v) {
+		return nil
+	}
 	switch name {
 	case "$eq":
 		return operand(v).eq
@@ -23,6 +26,9 @@ func conditionOf(name string, v api.Value) condition {
 	}
 	return conditionOfSort(name, v)
 }
+
+// isValue tells what may stand in a document from what is Missing and from kinds that are none. What is within v is not asked.
+func isValue(v api.Value) bool { return v.Kind >= api.Least && v.Kind <= api.Greatest }
 
 // conditionOfSort is conditionOf of the operators that take values of one sort alone.
 func conditionOfSort(name string, v api.Value) condition {

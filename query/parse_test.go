@@ -53,7 +53,7 @@ func TestNoDoc(t *testing.T) {
 
 // TestValuesByThemselves has any value that is no Doc with a dollar first: it is asked for as it is.
 func TestValuesByThemselves(t *testing.T) {
-	for _, v := range every() {
+	for _, v := range some() {
 		for _, v := range row(v, beside(v)) {
 			wantRead(t, is("a", v), false, "a")
 			wantRead(t, docs(is("a.b", v), is("c", v)), false, "a.b", "c")
@@ -62,6 +62,42 @@ func TestValuesByThemselves(t *testing.T) {
 			want(t, is("a", v), is("a", text("another")), false)
 		}
 	}
+}
+
+// TestWhatIsNoValue has it stand where a value to compare with must be.
+func TestWhatIsNoValue(t *testing.T) {
+	for _, v := range nothing() {
+		for _, v := range row(v, beside(v)) {
+			wantRefusedAt(t, v)
+			for _, name := range comparing() {
+				c := is(name, v)
+				for _, c := range row(c, docs(is("$ne", null), c), docs(c, is("$ne", null)), docs(c, is("$none", null))) {
+					wantRefusedAt(t, c)
+					wantRefusedAt(t, is("$not", c))
+					wantRefusedAt(t, docs(is("$exists", yes), is("$not", is("$not", c))))
+				}
+			}
+		}
+	}
+}
+
+// wantRefusedAt has a field of that condition, or value, be told with ErrQuery wherever the field stands, but for an error ahead of it.
+func wantRefusedAt(t *testing.T, condition api.Value) {
+	t.Helper()
+	for _, q := range row(is("a", condition), is("a.b", condition)) {
+		wantNoQuery(t, q, api.ErrQuery)
+		wantNoQuery(t, docs(is("z", i32(1)), q, is("y", null)), api.ErrQuery)
+		wantNoQuery(t, docs(q, is("a..b", null)), api.ErrQuery)
+		wantNoQuery(t, docs(is("a..b", null), q), api.ErrName)
+		wantNoQuery(t, docs(q, is("$expr", missing)), api.ErrQuery)
+		wantNoQuery(t, docs(is("$expr", missing), q), api.ErrType)
+		for _, name := range []string{"$and", "$or", "$nor"} {
+			wantNoQuery(t, op(name, q), api.ErrQuery)
+			wantNoQuery(t, op(name, doc(), op("$or", docs(is("z", null), q)), is("", null)), api.ErrQuery)
+			wantNoQuery(t, op(name, is("", null), q), api.ErrName)
+		}
+	}
+	wantNoQuery(t, is("a..b", condition), api.ErrName)
 }
 
 func TestPathsOfFields(t *testing.T) {
@@ -164,10 +200,14 @@ func TestADollarFurtherOn(t *testing.T) {
 	turned := docs(is("$eq", i32(1)), is("a", i32(1)))
 	wantNoQuery(t, is("a", turned), api.ErrQuery)
 	want(t, is("a", is("$eq", turned)), is("a", turned), true)
-	// What has fields and is no Doc is a value, too.
-	for _, v := range append(plain(), list(), missing, none(13)) {
+	// What has fields and is no Doc is a value, too, if its kind is one.
+	for _, v := range append(plain(), list()) {
 		v.F = is("$none", i32(1)).F
 		wantRead(t, is("a", v), false, "a")
+	}
+	for _, v := range nothing() {
+		v.F = is("$eq", i32(1)).F
+		wantNoQuery(t, is("a", v), api.ErrQuery)
 	}
 }
 
@@ -185,7 +225,7 @@ func takes(name string, v api.Value) bool {
 	case "$not":
 		return false
 	}
-	return true
+	return v.Kind > api.Missing && v.Kind <= api.Greatest
 }
 
 // TestWhatOperatorsTake has each operator with a value of each kind.
@@ -267,7 +307,8 @@ func wrongExpressions() []wrong {
 // wrongQueries are each wrong in one thing.
 func wrongQueries() []wrong {
 	l := []wrong{{is("", i32(1)), api.ErrName}, {is("a..b", is("$gt", i32(1))), api.ErrName}, {is("$none", i32(1)), api.ErrQuery}, {op("$or"), api.ErrQuery}, {is("$and", doc()), api.ErrQuery},
-		{is("a", is("$none", i32(1))), api.ErrQuery}, {is("a", is("$size", null)), api.ErrQuery}, {is("a", docs(is("$eq", i32(1)), is("b", i32(1)))), api.ErrQuery}, {op("$nor", i32(1)), api.ErrQuery}, {is("a", is("$not", doc())), api.ErrQuery}}
+		{is("a", is("$none", i32(1))), api.ErrQuery}, {is("a", is("$size", null)), api.ErrQuery}, {is("a", docs(is("$eq", i32(1)), is("b", i32(1)))), api.ErrQuery}, {op("$nor", i32(1)), api.ErrQuery}, {is("a", is("$not", doc())), api.ErrQuery},
+		{is("a", missing), api.ErrQuery}, {is("a", none(13)), api.ErrQuery}, {is("a", is("$lte", missing)), api.ErrQuery}, {is("a", is("$not", is("$ne", none(-1)))), api.ErrQuery}}
 	for _, x := range wrongExpressions() {
 		l = append(l, wrong{is("$expr", x.v), x.e})
 	}

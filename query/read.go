@@ -93,12 +93,16 @@ func (r *reader) place(name string, v api.Value) (clause, api.Errno) {
 	return place{path: p, asked: l}, e
 }
 
-// conditionsAt reads what is asked at a path. A Doc is taken as conditions for its first field's name alone.
+// conditionsAt reads what is asked at a path. A Doc is taken as conditions for its first field's name alone; any other value is read as $eq of it, so that it takes what $eq takes.
 func conditionsAt(v api.Value) (conditions, api.Errno) {
 	if v.Kind == api.Doc && len(v.F) > 0 && isOperator(v.F[0].Name) {
 		return conditionsOf(v)
 	}
-	return conditions{operand(v).eq}, api.OK
+	c := conditionOf("$eq", v)
+	if c == nil {
+		return nil, api.ErrQuery
+	}
+	return conditions{c}, api.OK
 }
 
 // conditionsOf reads a Doc of conditions, one at least.
