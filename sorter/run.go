@@ -55,13 +55,13 @@ func (s *Sorter) atOnce() int {
 	return n
 }
 
-// gather merges runs, so many at once, till there are no more than that. It goes through all of them again and again, so that none is copied much more often than another.
-func (s *Sorter) gather(most int) api.Errno {
+// gather merges runs, so many at once, till no more than most are left. It goes through all of them again and again, so that none is copied much more often than another.
+func (s *Sorter) gather(once, most int) api.Errno {
 	for i := 0; len(s.runs) > most; i++ {
 		if i >= len(s.runs)-1 {
 			i = 0
 		}
-		if e := s.join(i, min(i+most, len(s.runs))); e != api.OK {
+		if e := s.join(i, min(i+once, len(s.runs))); e != api.OK {
 			return e
 		}
 	}
